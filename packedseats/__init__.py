@@ -1,0 +1,1 @@
+"""Packedseats: councils that settle column by column."""
