@@ -1,10 +1,13 @@
-"""What the tests share: values of all kinds, and the document's examples, run to the letter."""
+"""What the tests share: values of all kinds, a plain reading of the definitions, and the document's examples."""
 
 import ast
+import itertools
 
 import packedseats.errors
+from packedseats.councils import Council
 
 GREAT = 10 ** 18
+TWELVE_SIDES = [(column, way) for column in range(6) for way in ("least", "most")]
 
 
 def nested(depth, inmost=1):
@@ -53,3 +56,49 @@ def check_examples(case, text):
                 case.assertEqual(outcome_of(lines), line)
             lines = []
     case.assertEqual(lines, [])
+
+
+def some_council(chance, width, seats=None, greatest=None):
+    """Return a Council of the width, now and then with a seat that outweighs all others."""
+    seats = seats or chance.randint(2, 7)
+    greatest = greatest or chance.choice([1, 2, 5, 20, 10 ** 6])
+    weights = [chance.randint(1, greatest) for _ in range(seats)]
+    if chance.random() < 0.2:
+        weights[chance.randrange(seats)] = min(10 ** 6, sum(weights) + 1)
+    return Council(weights, [chance.randint(1, sum(weights)) for _ in range(width)])
+
+
+def plain_settle(weights, quotas, rows):
+    """Return what [2] says that a session makes."""
+    made = []
+    for column, quota in enumerate(quotas):
+        entries = [row[column] for row in rows]
+        enough = [v for v in entries if sum(w for w, entry in zip(weights, entries) if entry <= v) >= quota]
+        made.append(min(enough))
+    return tuple(made)
+
+
+def plain_allowance(weights, quotas, side):
+    column, way = side
+    return {"least": quotas[column] - 1, "most": sum(weights) - quotas[column]}[way]
+
+
+def plain_is_heavy(council, sides):
+    """Return whether seats can be put into sides, seat by seat, the heaviest first, in all ways that have room."""
+    rooms = [plain_allowance(council.weights(), council.quotas(), side) for side in sides]
+    return plain_can_put(sorted(council.weights(), reverse=True), rooms)
+
+
+def plain_can_put(weights, rooms):
+    if not weights:
+        return True
+    for at, room in enumerate(rooms):
+        if weights[0] <= room and room not in rooms[:at]:
+            if plain_can_put(weights[1:], rooms[:at] + [room - weights[0]] + rooms[at + 1:]):
+                return True
+    return False
+
+
+def subsets_of(things):
+    """Return all subsets as lists, each in the order of things."""
+    return [list(some) for many in range(len(things) + 1) for some in itertools.combinations(things, many)]

@@ -6,9 +6,7 @@ import unittest
 
 from packedseats.bounds import exactly, joined, meets, mirrored, missed, sides_of
 from packedseats.kinds import is_wish
-from tests.plain import GREAT, check_examples
-
-SIDES = [(column, way) for column in range(6) for way in ("least", "most")]
+from tests.plain import GREAT, TWELVE_SIDES, check_examples
 
 
 def plain_misses(row, bound):
@@ -18,7 +16,7 @@ def plain_misses(row, bound):
 
 def some_wish(chance, width, many):
     """Return a wish with so many bounds, in any order."""
-    sides = chance.sample(SIDES[:2 * width], many)
+    sides = chance.sample(TWELVE_SIDES[:2 * width], many)
     return [(*side, chance.randint(-2, 2)) for side in sides]
 
 
@@ -58,14 +56,14 @@ class MeetsTest(unittest.TestCase):
             self.assertEqual(wish, kept)
 
     def test_twelve_bounds_in_every_turn(self):
-        wish = [(*side, 1 if side[1] == "least" else -1) for side in SIDES]
+        wish = [(*side, 1 if side[1] == "least" else -1) for side in TWELVE_SIDES]
         for turn in range(12):
             self.assertEqual(missed((0,) * 6, wish[turn:] + wish[:turn]), wish)
             self.assertEqual(missed((0,) * 6, (wish[turn:] + wish[:turn])[::-1]), wish)
             self.assertIs(meets((0,) * 6, wish[turn:turn + 1]), False)
 
     def test_one_missed_bound_is_enough(self):
-        wish = [(*side, 0) for side in SIDES]
+        wish = [(*side, 0) for side in TWELVE_SIDES]
         self.assertIs(meets((0,) * 6, wish), True)
         for column in range(6):
             row = (0,) * column + (1,) + (0,) * (5 - column)
@@ -118,7 +116,7 @@ class ExactlyTest(unittest.TestCase):
             kept = list(wish)
             self.assertEqual(sides_of(wish), sorted([bound[:2] for bound in wish]))
             self.assertEqual(wish, kept)
-        self.assertEqual(sides_of([(*side, 0) for side in SIDES[::-1]]), SIDES)
+        self.assertEqual(sides_of([(*side, 0) for side in TWELVE_SIDES[::-1]]), TWELVE_SIDES)
         self.assertEqual(sides_of([]), [])
 
     def test_returned_lists_are_new(self):
@@ -164,7 +162,7 @@ class JoinedTest(unittest.TestCase):
             self.assertEqual([one, other], kept)
 
     def test_joined_with_the_empty_wish_and_with_itself(self):
-        wish = [(*side, 3) for side in SIDES[::-1]]
+        wish = [(*side, 3) for side in TWELVE_SIDES[::-1]]
         for both in (joined(wish, []), joined([], wish), joined(wish, wish)):
             self.assertEqual(both, wish[::-1])
         self.assertEqual(joined([], []), [])
