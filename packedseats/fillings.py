@@ -12,7 +12,7 @@ def allowances_of(council, sides):
 
 def filling(weights, allowances):
     """Return for each seat the index of the allowance under which it is put, or None if there is no way."""
-    fitting = [_fitting_groups(weights, allowance) for allowance in allowances]
+    fitting = _fitting_groups(weights, allowances)
     families = [1]
     for groups in fitting:
         families.append(_grown(families[-1], groups))
@@ -30,18 +30,21 @@ def filling(weights, allowances):
 def can_fill(weights, allowances):
     """Return whether all seats can be put under the allowances."""
     family = 1
-    for allowance in allowances:
-        family = _grown(family, _fitting_groups(weights, allowance))
+    for groups in _fitting_groups(weights, allowances):
+        family = _grown(family, groups)
     return _holds_all(family, len(weights))
 
 
-def filling_table(weights, allowances):
-    """Return for each mask of allowances, in ascending order, whether all seats can be put under these."""
-    families = [1]
-    for allowance in allowances:
-        groups = _fitting_groups(weights, allowance)
-        families = families + [_grown(family, groups) for family in families]
-    return [_holds_all(family, len(weights)) for family in families]
+def heavy_table(councils, sides):
+    """Return for each mask of the sides, in ascending order, whether they are heavy for one of the councils."""
+    able = [council for council in councils if _has_room_for_each_seat(council, sides)]
+    wholes = [_all_seats(len(council)) for council in able]
+    fitting = [_fitting_groups(council.weights(), allowances_of(council, sides)) for council in able]
+    table = [[1] * len(able)]
+    for at in range(len(sides)):
+        fitting_here = [groups[at] for groups in fitting]
+        table = table + [_grown_families(families, fitting_here, wholes) for families in table]
+    return [families is None for families in table]
 
 
 def _all_seats(many):
@@ -53,14 +56,30 @@ def _holds_all(family, many):
     return family >> _all_seats(many) & 1 == 1
 
 
-def _fitting_groups(weights, allowance):
-    """Return (group, family of the groups that share no seat with it) for each group within the allowance."""
+def _has_room_for_each_seat(council, sides):
+    """Return whether some allowance is enough for the heaviest seat: otherwise every set of the sides is light."""
+    return max(council.weights()) <= max(allowances_of(council, sides), default=0)
+
+
+def _grown_families(families, fitting, wholes):
+    """Return the families of the councils with one allowance more, or None if one of them holds all seats."""
+    if families is None:
+        # With more sides a heavy set stays heavy, so its families need not be known.
+        return None
+    grown = [_grown(family, groups) for family, groups in zip(families, fitting)]
+    if any([family >> whole & 1 for family, whole in zip(grown, wholes)]):
+        return None
+    return grown
+
+
+def _fitting_groups(weights, allowances):
+    """Return for each allowance a list of (group, family of the groups that share no seat with it) that fit."""
     sums = [0]
     apart = [1]
     for seat, weight in enumerate(weights):
         sums = sums + [total + weight for total in sums]
         apart = [family | family << (1 << seat) for family in apart] + apart
-    return [(group, apart[group]) for group, total in enumerate(sums) if total <= allowance]
+    return [[(group, apart[group]) for group, total in enumerate(sums) if total <= most] for most in allowances]
 
 
 def _grown(family, groups):

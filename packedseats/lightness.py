@@ -1,6 +1,7 @@
 """Which sets of sides are light for all of several councils. A set of sides is a mask of their indexes here."""
 
-from packedseats.fillings import allowances_of, can_fill, filling_table
+from packedseats.fillings import allowances_of, can_fill, heavy_table
+from packedseats.masks import members
 
 
 def is_light(councils, sides):
@@ -11,7 +12,7 @@ def is_light(councils, sides):
 def light_sets(councils, sides):
     """Return the subsets that are light for all of the councils and part of no other such subset."""
     ordered = sorted(sides)
-    is_heavy = _heavy_table(councils, ordered)
+    is_heavy = heavy_table(councils, ordered)
     light = [mask for mask in range(len(is_heavy)) if not is_heavy[mask]]
     greatest = [mask for mask in light if all([is_heavy[more] for more in _one_more(mask, len(ordered))])]
     return _listed(ordered, greatest)
@@ -20,16 +21,10 @@ def light_sets(councils, sides):
 def heavy_sets(councils, sides):
     """Return the subsets that are heavy for one of the councils while none of their proper subsets is."""
     ordered = sorted(sides)
-    is_heavy = _heavy_table(councils, ordered)
+    is_heavy = heavy_table(councils, ordered)
     heavy = [mask for mask in range(len(is_heavy)) if is_heavy[mask]]
     least = [mask for mask in heavy if not any([is_heavy[less] for less in _one_less(mask, len(ordered))])]
     return _listed(ordered, least)
-
-
-def _heavy_table(councils, sides):
-    """Return for each set of the sides whether it is heavy for at least one of the councils."""
-    tables = [filling_table(council.weights(), allowances_of(council, sides)) for council in councils]
-    return [any([table[mask] for table in tables]) for mask in range(1 << len(sides))]
 
 
 def _one_more(mask, many):
@@ -42,4 +37,4 @@ def _one_less(mask, many):
 
 def _listed(sides, masks):
     """Return the sets as lists of the sides, which are in ascending order, in ascending order."""
-    return sorted([[side for at, side in enumerate(sides) if mask >> at & 1] for mask in masks])
+    return sorted([members(sides, mask) for mask in masks])

@@ -102,3 +102,93 @@ def plain_can_put(weights, rooms):
 def subsets_of(things):
     """Return all subsets as lists, each in the order of things."""
     return [list(some) for many in range(len(things) + 1) for some in itertools.combinations(things, many)]
+
+
+def plain_meets(row, wish):
+    return all((row[column] >= value) if way == "least" else (row[column] <= value) for column, way, value in wish)
+
+
+def plain_sessions(rows, council):
+    """Return all rows that one session of the council makes from these rows.
+
+    Sessions are gathered seat by seat: of each, the weight of the seats with at most this entry, for each entry of
+    each column, in one great number of fields.
+    """
+    quotas = council.quotas()
+    entries = [sorted({row[column] for row in rows}) for column in range(len(quotas))]
+    fields = [(column, entry) for column in range(len(quotas)) for entry in entries[column]]
+    shift = {field: 24 * at for at, field in enumerate(fields)}
+    marks = [sum(1 << shift[field] for field in fields if row[field[0]] <= field[1]) for row in rows]
+    sessions = {0}
+    for weight in council.weights():
+        sessions = {session + weight * mark for session in sessions for mark in marks}
+    made = set()
+    for session in sessions:
+        row = []
+        for column, quota in enumerate(quotas):
+            row.append(next(v for v in entries[column] if (session >> shift[(column, v)]) % (1 << 24) >= quota))
+        made.add(tuple(row))
+    return made
+
+
+def plain_made(rows, councils):
+    """Return the set of all rows that can be made, by holding all sessions until nothing new comes of them."""
+    made = set(rows)
+    while True:
+        new = set().union(*[plain_sessions(sorted(made), council) for council in councils]) if made else set()
+        if new <= made:
+            return made
+        made |= new
+
+
+def plain_paper(rows, councils, wish):
+    """Return the paper with the fewest bounds, of several the first one in order, or None."""
+    for paper in subsets_of(sorted(wish)):
+        if not any(plain_meets(row, paper) for row in rows):
+            sides = [bound[:2] for bound in paper]
+            if not any(plain_is_heavy(council, sides) for council in councils):
+                return paper
+    return None
+
+
+def some_small_board(chance):
+    """Return (rows, councils) of a board so small that all sessions can be held: one to three columns."""
+    width = chance.randint(1, 3)
+    entries = chance.choice([1, 2, 3])
+    seats = {1: [2, 3, 4, 5, 6, 7], 2: [2, 3, 4, 5], 3: [2, 3, 3, 4]}[width]
+    rows = [some_row(chance, width, 0, entries) for _ in range(chance.randint(0, 4))]
+    councils = [some_council(chance, width, chance.choice(seats), chance.choice([1, 2, 3])) for _ in range(2)]
+    return rows, councils[:chance.randint(1, 2)]
+
+
+def some_row(chance, width, least, greatest):
+    return tuple([chance.randint(least, greatest) for _ in range(width)])
+
+
+def some_wish(chance, width, least, greatest, bounds=None):
+    """Return a wish of the width in any order, with so many bounds."""
+    sides = TWELVE_SIDES[:2 * width]
+    bounds = chance.randint(0, len(sides)) if bounds is None else bounds
+    return [(*side, chance.randint(least, greatest)) for side in chance.sample(sides, bounds)]
+
+
+def check_plan(case, rows, councils, wish, plan):
+    """Check a plan as [50] and [51] describe it, by sessions that are written here, and that its end meets the wish."""
+    case.assertIs(type(plan), tuple)
+    steps, end = plan
+    case.assertIs(type(steps), list)
+    case.assertLessEqual(len(steps), 2 ** len(wish) - 1)
+    known = list(rows)
+    for step in steps:
+        case.assertIs(type(step), tuple)
+        council, seats = step
+        case.assertEqual([type(council), type(seats)], [int, list])
+        case.assertTrue(0 <= council < len(councils))
+        case.assertEqual([type(seat) for seat in seats], [int] * len(councils[council]))
+        case.assertTrue(all(0 <= seat < len(known) for seat in seats))
+        seated = [known[seat] for seat in seats]
+        known.append(plain_settle(councils[council].weights(), councils[council].quotas(), seated))
+    case.assertIs(type(end), int)
+    case.assertTrue(0 <= end < len(known))
+    case.assertTrue(plain_meets(known[end], wish))
+    return known[end]
