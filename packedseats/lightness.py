@@ -1,7 +1,7 @@
 """Which sets of sides are light for all of several councils. A set of sides is a mask of their indexes here."""
 
 from packedseats.fillings import allowances_of, can_fill, heavy_table
-from packedseats.masks import members
+from packedseats.masks import members, one_less, one_more
 
 
 def is_light(councils, sides):
@@ -14,7 +14,7 @@ def light_sets(councils, sides):
     ordered = sorted(sides)
     is_heavy = heavy_table(councils, ordered)
     light = [mask for mask in range(len(is_heavy)) if not is_heavy[mask]]
-    greatest = [mask for mask in light if all([is_heavy[more] for more in _one_more(mask, len(ordered))])]
+    greatest = [mask for mask in light if all([is_heavy[more] for more in one_more(mask, len(ordered))])]
     return _listed(ordered, greatest)
 
 
@@ -23,16 +23,8 @@ def heavy_sets(councils, sides):
     ordered = sorted(sides)
     is_heavy = heavy_table(councils, ordered)
     heavy = [mask for mask in range(len(is_heavy)) if is_heavy[mask]]
-    least = [mask for mask in heavy if not any([is_heavy[less] for less in _one_less(mask, len(ordered))])]
+    least = [mask for mask in heavy if not any([is_heavy[less] for less in one_less(mask, len(ordered))])]
     return _listed(ordered, least)
-
-
-def _one_more(mask, many):
-    return [mask | 1 << at for at in range(many) if not mask >> at & 1]
-
-
-def _one_less(mask, many):
-    return [mask - (1 << at) for at in range(many) if mask >> at & 1]
 
 
 def _listed(sides, masks):

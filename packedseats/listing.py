@@ -42,7 +42,7 @@ class Lister:
 
     def __init__(self, rows, councils, wish):
         self._entries = Entries(rows)
-        self._wish = sorted(wish)
+        self._wish = list(wish)
         self._width = len(rows[0])
         every_side = [side for column in range(self._width) for side in both_sides(column)]
         light = light_sets(councils, every_side)

@@ -22,6 +22,16 @@ def mask_of(truths):
     return mask
 
 
+def one_more(mask, many):
+    """Return the sets that come of this one, a set of indexes below many, by adding one index."""
+    return [mask | 1 << at for at in range(many) if not mask >> at & 1]
+
+
+def one_less(mask, many):
+    """Return the sets that come of this one, a set of indexes below many, by leaving out one index."""
+    return [mask - (1 << at) for at in range(many) if mask >> at & 1]
+
+
 def rows_meeting(rows, bounds):
     """Return for each bound the set of the rows that meet it."""
     return [mask_of([meets(row, [bound]) for row in rows]) for bound in bounds]

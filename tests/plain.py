@@ -172,6 +172,14 @@ def some_wish(chance, width, least, greatest, bounds=None):
     return [(*side, chance.randint(least, greatest)) for side in chance.sample(sides, bounds)]
 
 
+def wish_for_a_made_row(chance, rows, councils):
+    """Return a wish that some row that can be made meets, one that nobody told if there is such a row."""
+    made = plain_made(rows, councils)
+    row = chance.choice(sorted(made - set(rows)) or sorted(made))
+    every = [(column, way, entry) for column, entry in enumerate(row) for way in ("least", "most")]
+    return chance.sample(every, chance.randint((len(every) + 1) // 2, len(every)))
+
+
 def check_plan(case, rows, councils, wish, plan):
     """Check a plan as [50] and [51] describe it, by sessions that are written here, and that its end meets the wish."""
     case.assertIs(type(plan), tuple)

@@ -156,6 +156,12 @@ class LanguageTest(unittest.TestCase):
                     self.assertIn(alias.name, module_names(ast.Module(own, [])), name)
         self.check_no_ring(needs)
 
+    def test_each_import_is_used(self):
+        for name, tree in self.trees.items():
+            imports = {alias.name for node in tree.body if isinstance(node, ast.ImportFrom) for alias in node.names}
+            used = {node.id for node in ast.walk(tree) if isinstance(node, ast.Name)}
+            self.assertFalse(imports - used, name)
+
     def check_no_ring(self, needs):
         left = dict(needs)
         while left:

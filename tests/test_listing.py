@@ -36,7 +36,7 @@ def grid_councils(width):
 
 
 def slanting_rows(many, start):
-    """Return so many rows of width 2, of which each two have a least row of their own: many * (many + 1) // 2 in all."""
+    """Return so many rows of width 2, of which each two have a least row of their own."""
     return [(start + at, start + many - at) for at in range(many)]
 
 
