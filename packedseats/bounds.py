@@ -37,6 +37,16 @@ def mirrored(wish):
     return sorted([(column, _other_way(way), -value) for column, way, value in wish])
 
 
+def both_sides(column):
+    """Return the list of both sides of the column, in ascending order."""
+    return [(column, way) for way in WAYS]
+
+
+def every_side(width):
+    """Return the list of all sides of the width, in ascending order."""
+    return [side for column in range(width) for side in both_sides(column)]
+
+
 def _meets_bound(row, bound):
     column, way, value = bound
     if way == "least":

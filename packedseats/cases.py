@@ -6,7 +6,7 @@ A set of bounds is a mask of their indexes, and a set of told rows is a mask of 
 from packedseats.bounds import sides_of
 from packedseats.fillings import heavy_table
 from packedseats.masks import fewest_first, first_member, members, met_table, rows_meeting
-from packedseats.packings import packing
+from packedseats.packings import first_packing
 
 
 def wish_case(rows, councils, wish):
@@ -106,7 +106,5 @@ class Planner:
 
     def _found_packing(self, heavy):
         indexes = members(list(range(len(self._sides))), heavy)
-        sides = members(self._sides, heavy)
-        packings = [packing(council, sides) for council in self._councils]
-        council, places = [(at, found) for at, found in enumerate(packings) if found is not None][0]
+        council, places = first_packing(self._councils, members(self._sides, heavy))
         return (council, [indexes[place] for place in places])

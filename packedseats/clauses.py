@@ -3,8 +3,7 @@
 A set of rows or of sides is a mask of their indexes here.
 """
 
-from packedseats.bounds import meets
-from packedseats.entries import both_sides
+from packedseats.bounds import every_side, meets
 from packedseats.errors import TooMany
 from packedseats.fillings import heavy_table
 from packedseats.masks import mask_of
@@ -22,8 +21,7 @@ class ClauseFinder:
     """Puts clauses together bound by bound, as long as each bound is needed: without it, or looser, a row meets all."""
 
     def __init__(self, rows, councils, limit):
-        width = len(rows[0]) if rows else 0
-        sides = [side for column in range(width) for side in both_sides(column)]
+        sides = every_side(len(rows[0]) if rows else 0)
         self._choices = [_choices_of(rows, side) for side in sides]
         self._heavy = heavy_table(councils, sides)
         self._every_row = (1 << len(rows)) - 1

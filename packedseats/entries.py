@@ -1,13 +1,7 @@
 """Which entries a column can have in the rows that can be made."""
 
-from packedseats.bounds import meets
-from packedseats.kinds import WAYS
+from packedseats.bounds import both_sides, meets
 from packedseats.masks import mask_of
-
-
-def both_sides(column):
-    """Return the list of both sides of the column, in ascending order."""
-    return [(column, way) for way in WAYS]
 
 
 class Entries:

@@ -37,14 +37,52 @@ def can_fill(weights, allowances):
 
 def heavy_table(councils, sides):
     """Return for each mask of the sides, in ascending order, whether they are heavy for one of the councils."""
-    able = [council for council in councils if _has_room_for_each_seat(council, sides)]
-    wholes = [_all_seats(len(council)) for council in able]
-    fitting = [_fitting_groups(council.weights(), allowances_of(council, sides)) for council in able]
-    table = [[1] * len(able)]
+    filler = Filler(councils, sides)
+    table = [filler.begun()]
     for at in range(len(sides)):
-        fitting_here = [groups[at] for groups in fitting]
-        table = table + [_grown_families(families, fitting_here, wholes) for families in table]
+        table = table + [filler.grown(families, at) for families in table]
     return [families is None for families in table]
+
+
+def light_lists(councils, sides, longest):
+    """Return the ascending lists of one to so many indexes of sides that are light for all of the councils.
+
+    An index may stand in a list several times; then its side is filled as often. Short lists come first, and lists
+    of one length are in ascending order.
+    """
+    filler = Filler(councils, sides)
+    level = [([], filler.begun())]
+    found = []
+    for _ in range(longest):
+        # What comes of a heavy list is heavy, so it is not followed up.
+        longer = [([*indexes, at], filler.grown(families, at))
+                  for indexes, families in level for at in range(max(indexes, default=0), len(sides))]
+        level = [(indexes, families) for indexes, families in longer if families is not None]
+        found += [indexes for indexes, _ in level]
+    return found
+
+
+class Filler:
+    """Fills allowances of some sides with the seats of several councils: it keeps a family for each of them."""
+
+    def __init__(self, councils, sides):
+        able = [council for council in councils if _has_room_for_each_seat(council, sides)]
+        self._wholes = [_all_seats(len(council)) for council in able]
+        self._fitting = [_fitting_groups(council.weights(), allowances_of(council, sides)) for council in able]
+
+    def begun(self):
+        """Return the families before any allowance is filled."""
+        return [1] * len(self._wholes)
+
+    def grown(self, families, at):
+        """Return the families with the allowance of the side at this index more, or None if one holds all seats."""
+        if families is None:
+            # With more sides a heavy set stays heavy, so its families need not be known.
+            return None
+        grown = [_grown(family, groups[at]) for family, groups in zip(families, self._fitting)]
+        if any([family >> whole & 1 for family, whole in zip(grown, self._wholes)]):
+            return None
+        return grown
 
 
 def _all_seats(many):
@@ -59,17 +97,6 @@ def _holds_all(family, many):
 def _has_room_for_each_seat(council, sides):
     """Return whether some allowance is enough for the heaviest seat: otherwise every set of the sides is light."""
     return max(council.weights()) <= max(allowances_of(council, sides), default=0)
-
-
-def _grown_families(families, fitting, wholes):
-    """Return the families of the councils with one allowance more, or None if one of them holds all seats."""
-    if families is None:
-        # With more sides a heavy set stays heavy, so its families need not be known.
-        return None
-    grown = [_grown(family, groups) for family, groups in zip(families, fitting)]
-    if any([family >> whole & 1 for family, whole in zip(grown, wholes)]):
-        return None
-    return grown
 
 
 def _fitting_groups(weights, allowances):

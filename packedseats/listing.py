@@ -1,7 +1,7 @@
 """The rows that can be made and meet a wish, one after another in ascending order."""
 
-from packedseats.bounds import exactly, sides_of
-from packedseats.entries import Entries, both_sides
+from packedseats.bounds import every_side, exactly, sides_of
+from packedseats.entries import Entries
 from packedseats.errors import TooMany
 from packedseats.lightness import light_sets
 from packedseats.wishes import is_possible
@@ -44,8 +44,7 @@ class Lister:
         self._entries = Entries(rows)
         self._wish = list(wish)
         self._width = len(rows[0])
-        every_side = [side for column in range(self._width) for side in both_sides(column)]
-        light = light_sets(councils, every_side)
+        light = light_sets(councils, every_side(self._width))
         self._light = [self._light_at(light, column) for column in range(self._width)]
 
     def least_from(self, begun):

@@ -9,6 +9,12 @@ def packing(council, sides):
     return filling(council.weights(), allowances_of(council, sides))
 
 
+def first_packing(councils, sides):
+    """Return (index, packing) for the first council for which the sides are heavy, as they are for one of them."""
+    packings = [packing(council, sides) for council in councils]
+    return [(index, found) for index, found in enumerate(packings) if found is not None][0]
+
+
 def is_packing(council, sides, thing):
     """Return whether thing is a packing of the sides for the council."""
     if not isinstance(thing, list) or len(thing) != len(council):

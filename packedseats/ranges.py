@@ -1,7 +1,7 @@
 """The range of a column: the least and the greatest entry that it has in the rows that can be made."""
 
-from packedseats.bounds import sides_of
-from packedseats.entries import Entries, both_sides
+from packedseats.bounds import both_sides, sides_of
+from packedseats.entries import Entries
 from packedseats.lightness import light_sets
 
 

@@ -22,16 +22,21 @@ def is_possible(rows, councils, wish):
 
 def is_paper(rows, councils, wish, thing):
     """Return whether thing is a paper: light and ascending bounds of the wish, all of them met by no told row."""
-    if not isinstance(thing, list) or not all([_is_bound_of(wish, part) for part in thing]):
+    if not isinstance(thing, list) or not all([is_bound_of(wish, part) for part in thing]):
         return False
-    if not all([lesser < greater for lesser, greater in zip(thing, thing[1:])]):
+    if not ascends(thing):
         return False
     return is_light(councils, sides_of(thing)) and not any([meets(row, thing) for row in rows])
 
 
-def _is_bound_of(wish, thing):
+def is_bound_of(wish, thing):
     """Return whether thing is one of the bounds of the wish, and not only equal to one as (False, "least", 1) is."""
     if not isinstance(thing, tuple) or len(thing) != 3:
         return False
     column, way, value = thing
     return is_integer(column) and isinstance(way, str) and is_integer(value) and thing in wish
+
+
+def ascends(things):
+    """Return whether each of the things is less than the next one."""
+    return all([lesser < greater for lesser, greater in zip(things, things[1:])])

@@ -180,12 +180,15 @@ def wish_for_a_made_row(chance, rows, councils):
     return chance.sample(every, chance.randint((len(every) + 1) // 2, len(every)))
 
 
-def check_plan(case, rows, councils, wish, plan):
-    """Check a plan as [50] and [51] describe it, by sessions that are written here, and that its end meets the wish."""
+def check_plan(case, rows, councils, wish, plan, most=None):
+    """Check a plan as [50] and [51] describe it, by sessions that are written here, and that its end meets the wish.
+
+    It may have so many steps at most: if this is not told, as many as [51] says.
+    """
     case.assertIs(type(plan), tuple)
     steps, end = plan
     case.assertIs(type(steps), list)
-    case.assertLessEqual(len(steps), 2 ** len(wish) - 1)
+    case.assertLessEqual(len(steps), 2 ** len(wish) - 1 if most is None else most)
     known = list(rows)
     for step in steps:
         case.assertIs(type(step), tuple)
