@@ -33,7 +33,7 @@ class GapFinder:
         while at < self._many and self._is_missed(faces, at):
             at += 1
         if at == self._many:
-            return self._told(faces)
+            return self._listed(faces)
         for side in range(len(self._missing)):
             more = {**faces, side: at}
             if all(self._own_rows(more, (2 << at) - 1)):
@@ -53,7 +53,7 @@ class GapFinder:
             once |= self._missing[side][row]
         return [self._outmost[side][row] & seen & ~twice for side, row in faces.items()]
 
-    def _told(self, faces):
+    def _listed(self, faces):
         """Return the faces as a list if a gap of their sides is wanted, or None."""
         if not self._wanted[mask_of([side in faces for side in range(len(self._missing))])]:
             return None

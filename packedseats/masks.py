@@ -22,6 +22,14 @@ def mask_of(truths):
     return mask
 
 
+def union_of(masks):
+    """Return the set of what belongs to one of the sets."""
+    union = 0
+    for mask in masks:
+        union |= mask
+    return union
+
+
 def one_more(mask, many):
     """Return the sets that come of this one, a set of indexes below many, by adding one index."""
     return [mask | 1 << at for at in range(many) if not mask >> at & 1]

@@ -1,9 +1,10 @@
 """The power of councils: what some of them add to others, by the sets of sides that are heavy for them."""
 
 from packedseats.bounds import every_side
+from packedseats.families import heavy_family
 from packedseats.fillings import heavy_table
 from packedseats.lightness import heavy_sets
-from packedseats.masks import fewest_first, mask_of, members
+from packedseats.masks import fewest_first, mask_of, members, union_of
 
 
 def witness_rows(width, sides):
@@ -37,10 +38,9 @@ def same_power(councils, others):
 
 def fewest(councils):
     """Return, in order, the lists of indexes of the fewest councils that have the same power as all of them."""
-    sides = every_side(councils[0].width())
-    heavy = [mask_of(heavy_table([council], sides)) for council in councils]
+    families = [heavy_family([council]) for council in councils]
     groups = [members(list(range(len(councils))), mask) for mask in range(1 << len(councils))]
-    able = [group for group in groups if _joined([heavy[index] for index in group]) == _joined(heavy)]
+    able = [group for group in groups if union_of([families[index] for index in group]) == union_of(families)]
     least = min([len(group) for group in able])
     return sorted([group for group in able if len(group) == least])
 
@@ -61,11 +61,3 @@ def _first_heavy(tables, place):
     """Return the least index of a heavy table that says at this place that the sides are heavy, or None."""
     heavy = [index for index, is_heavy in enumerate(tables) if is_heavy[place]]
     return heavy[0] if heavy else None
-
-
-def _joined(masks):
-    """Return the set of what belongs to one of the sets."""
-    joined = 0
-    for mask in masks:
-        joined |= mask
-    return joined

@@ -20,7 +20,7 @@ RULED = Council([1, 1, 5], [4, 4])
 
 
 def heavy_groups(council):
-    """Return for each list of sides of the width, as a tuple in order, whether it is heavy: by packings of this test."""
+    """Return for each list of sides of the width, as a tuple in order, whether it is heavy by packings of this test."""
     heavy = {}
     for sides in subsets_of(TWELVE_SIDES[:2 * council.width()]):
         part = any(heavy[(*sides[:at], *sides[at + 1:])] for at in range(len(sides)))
