@@ -21,7 +21,7 @@ class Book:
         self._undone = []
 
     def __eq__(self, other):
-        return isinstance(other, Book) and self._width == other._width and self.log() == other.log()
+        return isinstance(other, Book) and self._width == other._width and self._deeds() == other._deeds()
 
     def __len__(self):
         return len(self._moments)
@@ -47,7 +47,7 @@ class Book:
         if len(self._moments) == MOST_DEEDS:
             raise TooMany(MOST_DEEDS)
         before = self._standing()
-        later = [other for other, _ in self._moments[at:]]
+        later = self._deeds()[at:]
         moments = _continued(self._width, self._moments[:at], [deed, *later])
         told = changes(before, moments[-1][1])
         self._moments = moments
@@ -74,7 +74,7 @@ class Book:
 
     def log(self):
         """Return the list of the deeds that are done and not undone."""
-        return [copied_deed(deed) for deed, _ in self._moments]
+        return [copied_deed(deed) for deed in self._deeds()]
 
     def rows(self):
         """Return the list of the tuples (source, row), in the order in which they were told."""
@@ -118,6 +118,10 @@ class Book:
         book._moments = list(moments)
         book._undone = list(undone)
         return book
+
+    def _deeds(self):
+        """Return the deeds of the log, which nobody else may change."""
+        return [deed for deed, _ in self._moments]
 
     def _standing(self):
         """Return what the deeds of the log leave."""

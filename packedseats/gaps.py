@@ -30,7 +30,7 @@ class GapFinder:
     def found(self, faces, at):
         """Return a wanted gap that comes of these faces, of which each row before this index misses one, or None."""
         # The next row that they let through must be stopped by a face of its own, on one side or another.
-        while at < self._many and self._is_missed(faces, at):
+        while self._is_missed(faces, at):
             at += 1
         if at == self._many:
             return self._listed(faces)

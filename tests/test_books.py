@@ -175,6 +175,19 @@ class DeedsTest(BooksCase):
             self.assertEqual(book.do(("want", name, [(1, "most", GREAT), (0, "least", -GREAT)])), ([], []))
         self.assertEqual(len(book), 16)
 
+    def test_names_that_are_words(self):
+        book, deeds = Book(2), []
+        for name in ("tell", "withdraw", "found", "close", "want"):
+            deeds += [("tell", name, (1, 2)), ("found", name, MOST), ("want", name, HIGH[::-1])]
+        for deed in deeds:
+            book.do(deed)
+        self.assertEqual(book.log(), [(*deed[:2], HIGH if deed[0] == "want" else deed[2]) for deed in deeds])
+        for name in ("tell", "withdraw", "found", "close", "want"):
+            for deed in (("withdraw", name, (1, 2)), ("close", name), ("drop", name)):
+                book.do(deed)
+                self.assertEqual(book.log()[-1], deed)
+        self.assertEqual([book.rows(), book.councils(), book.wants()], [[], [], []])
+
     def test_tell_and_withdraw(self):
         book = book_with(("tell", "ann", (0, 0)), ("tell", "bob", (0, 0)), ("tell", "ann", (0, 1)))
         self.assertEqual(self.check_unchanged(book, book.do, ("tell", "ann", (0, 0))), ("Told", ["ann"]))

@@ -130,6 +130,19 @@ True
             answers.append(closed)
         self.assertGreater(min(answers.count(True), answers.count(False)), 100)
 
+    def test_five_councils_of_seven_seats_against_all_sessions(self):
+        chance = random.Random(235)
+        answers = []
+        while min(answers.count(True), answers.count(False)) < 15:
+            width = chance.randint(2, 6)
+            councils = [some_council(chance, width, 7) for _ in range(5)]
+            # Equal rows in all columns but few make it likely enough that the list is closed.
+            allowed = [tuple(chance.choice([at, at, 0]) for _ in range(width)) for at in range(chance.randint(2, 3))]
+            if len(set(allowed)) == len(allowed):
+                closed = is_closed(councils, allowed)
+                self.assertIs(self.check_breach(councils, allowed), closed)
+                answers.append(closed)
+
     def test_closed_lists_and_what_is_left_of_them(self):
         # All that can be made is closed; without one made row it is closed only if no session makes that row.
         chance = random.Random(231)
@@ -231,6 +244,19 @@ class BarriersTest(ChartersCase):
             lengths += [len(bounds) for _, bounds in barriers(councils, allowed) or []]
         self.assertGreater(min(answers.count(True), answers.count(False)), 100)
         self.assertGreater(min(lengths.count(length) for length in (2, 3)), 50)
+
+    def test_rows_and_bounds_in_order_of_their_numbers(self):
+        chance = random.Random(245)
+        many = 0
+        while many < 60:
+            width = chance.randint(1, 3)
+            entries = [chance.choice([-GREAT, GREAT, 0, -1, -2, 5, 1 << 40]) + at for at in range(5)]
+            allowed = sorted({tuple(chance.choice(entries) for _ in range(width)) for _ in range(chance.randint(2, 5))})
+            allowed = [tuple(max(-GREAT, min(GREAT, entry)) for entry in row) for row in allowed]
+            if len(set(allowed)) == len(allowed):
+                many += 1
+                self.assertIs(self.check_barriers([], allowed), True)
+                self.check_barriers([some_council(chance, width)], allowed)
 
     def test_closed_lists(self):
         chance = random.Random(241)

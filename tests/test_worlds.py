@@ -241,6 +241,14 @@ class DecideAllTest(WorldsCase):
                 self.check(far, councils)
         self.assertLessEqual({True, False}, set(answers))
 
+    def test_somewhat_more_than_the_limits(self):
+        chance = random.Random(207)
+        for many, bounds in ((9, 13), (10, 12), (1, 12), (3, 14)):
+            councils = [some_council(chance, 6) for _ in range(6)]
+            self.check(worlds_with_few_misses(chance, 6, many, 45, bounds), councils)
+        self.assertEqual(decide_all([], [MEDIAN]), ("never", []))
+        self.assertIs(is_world_paper([], [MEDIAN], []), True)
+
     def test_same_question_again(self):
         rows = [(1,), (1,), (1,)]
         possible = [(rows[:at] + [(0,)] + rows[at + 1:], list(HIGH)) for at in range(3)]
@@ -489,6 +497,19 @@ class WithstoodTest(unittest.TestCase):
                     answer = can_be_met(worlds, councils)
                     self.assertEqual(answer, wrong <= number)
                     answers.append(answer)
+
+    def test_somewhat_more_than_the_limits(self):
+        # With thirteen rows that meet the bound, a list of thirteen bounds would have the number 0.
+        self.assertEqual(self.check([(1,)] * 13, [], HIGH), (1, HIGH * 7, list(range(13))))
+        self.assertEqual(self.check([(1,)] * 15, [MEDIAN], HIGH)[0], 7)
+        for rows in ([], [(1,)] * 3):
+            for councils in ([], [MEDIAN]):
+                number, bounds, indexes = self.ask(rows, councils, [])
+                self.assertEqual([bounds, indexes], [[], list(range(len(rows)))])
+                self.assertEqual(number >= 0, is_possible(rows, councils, []))
+        rows, wish = [(1,) * 6] * 13, [(column, "least", 1) for column in range(6)]
+        found = self.ask(rows, [Council([1, 1, 1], [2] * 6)], wish)
+        self.assertEqual(found, (6, [wish[0]] * 2, list(range(13))))
 
     def test_the_largest_inputs(self):
         chance = random.Random(215)
